@@ -1,0 +1,184 @@
+"""The rules of the language that a plain reading of the files can judge."""
+
+import ast
+import builtins
+import pathlib
+import re
+import unittest
+
+PACKAGE = pathlib.Path(__file__).resolve().parent.parent / "threeshapes"
+FILES = sorted(PACKAGE.rglob("*.py"))
+
+LIBRARY = {
+    "heapq": {"heappush", "heappop", "heapify", "heapreplace", "heappushpop"},
+    "math": {"gcd", "lcm", "isqrt", "comb", "perm", "factorial"},
+    "itertools": {"product", "combinations", "permutations"},
+}
+BUILTINS = set(
+    "len range enumerate zip min max sum abs sorted reversed int str bool list tuple dict set isinstance ord repr any"
+    " all divmod Exception ValueError TypeError KeyError IndexError LookupError ZeroDivisionError RuntimeError"
+    " NotImplementedError property".split()
+)
+BARRED = set(
+    "register mro elements open input law version_info with_traceback add_note attrgetter breakpoint compile copyright"
+    " credits delattr dir eval exec exit gc getattr globals hasattr help id importlib license locals methodcaller os"
+    " quit setattr super type vars sys typing enum namedtuple dataclass overload contextmanager".split()
+)
+METHODS = set(
+    "append clear copy count endswith extend find get index insert items join keys pop remove replace reverse"
+    " setdefault split startswith strip update values".split()
+)
+AT_ONCE = {"range", "zip", "enumerate", "reversed"}
+TAKERS = {"list", "tuple", "dict", "sorted", "sum", "any", "all", "enumerate", "zip", "min", "max", "combinations"}
+STATEMENTS = (
+    ast.Assign, ast.If, ast.While, ast.For, ast.Return, ast.Break, ast.Continue, ast.Pass, ast.Raise, ast.Assert,
+    ast.Delete, ast.Try, ast.Expr, ast.FunctionDef, ast.ClassDef, ast.ImportFrom,
+)
+
+
+def bound_names(node):
+    """The names that a node binds."""
+    if isinstance(node, (ast.FunctionDef, ast.ClassDef)):
+        yield node.name
+    if isinstance(node, ast.arg):
+        yield node.arg
+    if isinstance(node, ast.Name) and not isinstance(node.ctx, ast.Load):
+        yield node.id
+    if isinstance(node, ast.alias):
+        yield node.asname or node.name
+
+
+class LanguageTest(unittest.TestCase):
+    def each_node(self):
+        for path in FILES:
+            tree = ast.parse(path.read_text())
+            for node in ast.walk(tree):
+                for child in ast.iter_child_nodes(node):
+                    child.above = node
+                yield path.name + ":" + str(getattr(node, "lineno", 0)), node
+
+    def test_files(self):
+        self.assertTrue(FILES)
+        for path in FILES:
+            self.assertRegex(path.name, r"^[a-z_]+\.py$")
+            text = path.read_bytes().decode("ascii")
+            self.assertTrue(all(sign == "\n" or " " <= sign <= "~" for sign in text), path)
+            lines = text.split("\n")
+            self.assertLessEqual(len(lines), 400, path)
+            for number, line in enumerate(lines, 1):
+                self.assertLessEqual(len(line), 120, (path, number))
+            self.assertIsNone(re.search(r"_wall|_WallAttr", text), path)
+        for path in PACKAGE.rglob("*"):
+            self.assertTrue(path.suffix == ".py" or "__pycache__" in path.parts, path)
+
+    def test_imports(self):
+        for place, node in self.each_node():
+            self.assertNotIsInstance(node, ast.Import, place)
+            if isinstance(node, ast.ImportFrom):
+                self.assertEqual(node.level, 0, place)
+                for alias in node.names:
+                    self.assertIsNone(alias.asname, place)
+                    if node.module in LIBRARY:
+                        self.assertIn(alias.name, LIBRARY[node.module], place)
+                    else:
+                        source = PACKAGE / (node.module.removeprefix("threeshapes.") + ".py")
+                        self.assertRegex(source.read_text(), r"(?m)^(def|class) " + alias.name + r"\b|^" + alias.name)
+
+    def test_imports_do_not_go_in_circles(self):
+        needs = {}
+        for path in FILES:
+            tree = ast.parse(path.read_text())
+            needs[path.stem] = [
+                node.module.removeprefix("threeshapes.") for node in ast.walk(tree)
+                if isinstance(node, ast.ImportFrom) and node.module.startswith("threeshapes.")
+            ]
+        done = set()
+        while len(done) < len(needs):
+            ready = [name for name in needs if name not in done and done.issuperset(needs[name])]
+            self.assertTrue(ready, needs)
+            done.update(ready)
+
+    def test_statements_and_expressions(self):
+        for place, node in self.each_node():
+            if isinstance(node, ast.stmt):
+                self.assertIsInstance(node, STATEMENTS, place)
+            self.assertNotIsInstance(node, (ast.Global, ast.Lambda, ast.GeneratorExp, ast.Set, ast.NamedExpr), place)
+            if isinstance(node, ast.BinOp):
+                self.assertNotIsInstance(node.op, (ast.Div, ast.Pow, ast.MatMult), place)
+            if isinstance(node, ast.Constant):
+                self.assertNotIsInstance(node.value, (float, complex, bytes), place)
+                if isinstance(node.value, str):
+                    self.assertNotIn("%", node.value, place)
+                    self.assertNotIn("\\", node.value, place)
+            if isinstance(node, (ast.FunctionDef, ast.ClassDef)):
+                for decorator in node.decorator_list:
+                    self.assertEqual(ast.unparse(decorator), "property", place)
+            if isinstance(node, ast.Compare) and any(isinstance(op, (ast.Is, ast.IsNot)) for op in node.ops):
+                self.assertIn(ast.unparse(node.comparators[0]), ("None", "True", "False"), place)
+
+    def test_size_of_functions(self):
+        for place, node in self.each_node():
+            if isinstance(node, ast.FunctionDef):
+                self.assertLessEqual(node.end_lineno - node.lineno + 1, 40, place)
+
+    def test_names(self):
+        for place, node in self.each_node():
+            for name in bound_names(node):
+                self.assertRegex(name, r"^(_?[A-Za-z][A-Za-z0-9_]*|_|__init__|__eq__|__iter__)$", place)
+                self.assertNotIn(name, BARRED, place)
+                if not name.startswith("__"):
+                    self.assertFalse(hasattr(builtins, name), place + " " + name)
+            if isinstance(node, ast.Name) and isinstance(node.ctx, ast.Load) and hasattr(builtins, node.id):
+                self.assertIn(node.id, BUILTINS, place)
+            if isinstance(node, ast.Attribute):
+                self.assertNotIn(node.attr, BARRED, place)
+
+    def test_no_local_name_hides_a_name_of_its_file(self):
+        for path in FILES:
+            tree = ast.parse(path.read_text())
+            taken = {name for node in tree.body for part in ast.walk(node) for name in bound_names(part)
+                     if part is node or isinstance(node, ast.ImportFrom)}
+            for outer in ast.walk(tree):
+                if isinstance(outer, ast.FunctionDef):
+                    for node in ast.walk(outer):
+                        if node is not outer:
+                            self.assertFalse(taken.intersection(bound_names(node)), (path.name, outer.name))
+
+    def test_methods_of_builtin_values(self):
+        own = {node.name for _, node in self.each_node() if isinstance(node, ast.FunctionDef)}
+        for place, node in self.each_node():
+            if isinstance(node, ast.Call) and isinstance(node.func, ast.Attribute):
+                self.assertIn(node.func.attr, METHODS | own, place)
+
+    def test_iterated_at_once(self):
+        for place, node in self.each_node():
+            if isinstance(node, ast.Call) and isinstance(node.func, ast.Name) and node.func.id in AT_ONCE:
+                above = node.above
+                if isinstance(above, ast.Call):
+                    self.assertIn(ast.unparse(above.func), TAKERS | {"reversed"}, place)
+                else:
+                    self.assertIsInstance(above, (ast.For, ast.comprehension), place)
+
+    def test_generators_are_iterated_at_once(self):
+        names = set()
+        for _, node in self.each_node():
+            if isinstance(node, ast.FunctionDef) and any(isinstance(part, ast.Yield) for part in ast.walk(node)):
+                names.add(node.name)
+        for place, node in self.each_node():
+            if isinstance(node, ast.Name) and node.id in names:
+                self.assertIsInstance(node.above, ast.Call, place)
+                self.assertIsInstance(node.above.above, (ast.For, ast.comprehension), place)
+
+    def test_module_level(self):
+        for path in FILES:
+            for node in ast.parse(path.read_text()).body:
+                self.assertIsInstance(node, (ast.Expr, ast.ImportFrom, ast.FunctionDef, ast.ClassDef, ast.Assign), path)
+                if isinstance(node, ast.Expr):
+                    self.assertIsInstance(node.value, ast.Constant, path)
+                if isinstance(node, ast.Assign):
+                    self.assertEqual(len(node.targets), 1, path)
+                    ast.literal_eval(node.value)
+
+
+if __name__ == "__main__":
+    unittest.main()
