@@ -33,9 +33,32 @@ def falling_rows(length, most):
     return [row for row in rows if all(part >= later for part, later in zip(row, row[1:]))]
 
 
-def shapes_of_sum(length, total):
-    """All falling tuples of so many whole numbers from 0 with this sum, ascending."""
-    return [row for row in falling_rows(length, total) if sum(row) == total]
+def shapes_of_sum(length, total, most=None):
+    """All falling tuples of so many whole numbers from 0 with this sum, none above most, ascending."""
+    if length == 0:
+        return [()] if total == 0 else []
+    top = total if most is None else min(total, most)
+    return [
+        (first,) + rest
+        for first in range(top + 1)
+        for rest in shapes_of_sum(length - 1, total - first, first)
+    ]
+
+
+def drawn_shape(chance, length, most):
+    return tuple(sorted(chance.choices(range(most + 1), k=length), reverse=True))
+
+
+def drawn_after(chance, before, content):
+    """A shape with the sum of both; parts that are drawn together have more fillings, but there may be none."""
+    length = len(before)
+    after = [part + more for part, more in zip(before, chance.sample(content, length))]
+    for _ in range(chance.randint(0, 6) if length > 1 else 0):
+        one, other = chance.sample(range(length), 2)
+        if after[one] > after[other] + 1:
+            after[one] -= 1
+            after[other] += 1
+    return tuple(sorted(after, reverse=True))
 
 
 def plain_determinant(table):

@@ -47,14 +47,58 @@ FUNCTIONS = {
         read_shape(text)
         read_table(text)
     """,
+    "fillings": "filling_of_chain(chain)",
+    "listing": """
+        all_fillings(before, content, after)
+        count_fillings(before, content, after)
+        first_filling(before, content, after)
+        is_product(before, content, after)
+    """,
+    "triangles": """
+        broken_diamond(rows)
+        triangle_of(filling)
+        filling_of(triangle)
+        stretched_triangle(triangle, by)
+        added_triangles(one, other)
+        rolled_triangle(triangle)
+        mirrored_triangle(triangle)
+    """,
+    "triples": """
+        places_shape(places)
+        check_triple(n, triple)
+        triple_number(n, triple)
+        filled_triples(n, r)
+        needful_triples(n)
+        turned_triple(n, triple)
+    """,
+    "bars": """
+        bar_over(a, b, c, triple)
+        first_bar(a, b, c)
+        split_at(a, b, c, triple)
+        pieces_of(a, b, c)
+    """,
+    "productshapes": """
+        product_shapes(a, b)
+        factor_shapes(a, c)
+        greatest_product(a, b)
+        least_product(a, b)
+        part_range(a, b, part)
+        stretched_number(a, b, c, by)
+    """,
 }
 
 # The generators of the interface, by their names.
-GENERATORS = ()
+GENERATORS = ("all_fillings",)
 
 # The class, the parameters, the methods and the properties that it defines itself, and whether it has ==.
 CLASSES = {
     "turning": (("Turned", "left, shape, right, modulus", (), (), False),),
+    "fillings": (("Filling", "before, after, counts", ("letters_in_row(row)",), ("content", "chain"), True),),
+    "triangles": (("Triangle", "rows", ("height(s, j)",), ("rims",), True),),
+    "bars": (
+        ("Broken", "what, ones, others, sums, over", (), (), False),
+        ("Bars", "length", ("first_broken(a, b, c)", "all_broken(a, b, c)", "all_tight(a, b, c)"), (), False),
+    ),
 }
 
 

@@ -80,7 +80,10 @@ def _exponent_of_modulus(prime, table, more):
 
 
 def _turned_once(prime, left, middle, right, at, modulus):
-    """Clear row and column number at but for a power of the prime on the diagonal; return its exponent first."""
+    """Do one step: bring a power of the prime to this place of the diagonal; return its exponent and the new tables.
+
+    The rows ahead get noughts in this column. Row number at itself is not cleared in middle, for no later step asks it.
+    """
     part, row, column = _least_place(prime, middle, at)
     left = _swapped(left, row, at)
     middle = [_swapped(line, column, at) for line in _swapped(middle, row, at)]
@@ -89,7 +92,6 @@ def _turned_once(prime, left, middle, right, at, modulus):
     unit = _inverse_number(middle[at][at] // power, modulus)
     left[at] = _multiplied(left[at], unit, modulus)
     middle[at] = _multiplied(middle[at], unit, modulus)
-    # The rows behind are done: they have noughts in this column.
     for other in range(at):
         times = middle[other][at] // power
         left[other] = _lessened(left[other], left[at], times, modulus)
@@ -97,7 +99,6 @@ def _turned_once(prime, left, middle, right, at, modulus):
     for other in range(len(right)):
         if other != at:
             right[other] = _lessened(right[other], right[at], middle[at][other] // power, modulus)
-    middle[at] = [power if column == at else 0 for column in range(len(right))]
     return part, left, middle, right
 
 
