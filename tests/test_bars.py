@@ -164,6 +164,11 @@ class BarsErrorsTest(PlainCase):
                 self.assert_refused(BadShape, (word,), function, (1, 0), wrong, (1, 0))
                 self.assert_refused(BadShape, (word,), function, (1, 0), (1, 0), wrong)
 
+    def test_more_than_six_parts(self):
+        for function in self.functions(6):
+            self.assert_refused(BadShape, ("many",), function, (1,) * 7, (1,) * 7, (2,) * 7)
+            self.assert_refused(BadShape, ("many",), function, (1,) * 7, (1, 2), (2,) * 7)
+
     def test_the_order_of_the_shapes(self):
         for function in self.functions(2):
             self.assert_refused(BadShape, ("falling",), function, (1, 2), (True,), None)

@@ -180,13 +180,16 @@ class FillingOfChainTest(PlainCase):
         short = filling_of_chain(((1, 0, 0), (2, 1, 0)))
         self.assertEqual(short.counts, ((1, 1, 0), (0, 0), (0,)))
         self.assertEqual((short.before, short.after), ((1, 0, 0), (2, 1, 0)))
+        steps = [[1] * many + [0] * (24 - many) for many in range(25)]
+        self.assertEqual(filling_of_chain(steps).counts, tuple((1,) + (0,) * (23 - at) for at in range(24)))
         long = filling_of_chain([[0] * 24, [5] + [0] * 23])
         self.assertEqual([sum(row) for row in long.counts], [5] + [0] * 23)
 
     def test_shapes(self):
         for wrong in (None, 7, "ab", (), ((1,),), ((1,), (1,), (1,)), ((1, 0), (1,)), ((1,), (1, 0)), (None, (1,)),
                       ((1, 2), (1, 2)), ((True,), (1,)), ((1,), None), ((1,), (-1,)), ((1,) * 25, (1,) * 25),
-                      ((1, 0),) * 4, ((1,) * 24,) * 26, ((), ()), {(1,): 1, (2,): 1}, ((1, 1), (1, 1), (1, 2))):
+                      ((1, 0),) * 4, ((1,) * 24,) * 26, ((), ()), ((1, 0), (1,), (2, 0)),
+                      ((1, 0), (1, 0, 0), (2, 0)), ((1,) * 24,) * 25 + ((1,) * 23,), {(1,): 1, (2,): 1}, ((1, 1), (1, 1), (1, 2))):
             self.assert_refused(BadFilling, ("shapes",), filling_of_chain, wrong)
 
     def test_counts(self):

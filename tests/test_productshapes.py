@@ -96,6 +96,8 @@ class WrongShapesTest(PlainCase):
             for wrong, word in WRONG:
                 self.assert_refused(BadShape, (word,), function, wrong, (1, 0))
                 self.assert_refused(BadShape, (word,), function, (1, 0), wrong)
+            self.assert_refused(BadShape, ("many",), function, (1,) * 5, (1,) * 5)
+            self.assert_refused(BadShape, ("many",), function, (1,) * 5, (1, 2))
             self.assert_refused(BadShape, ("falling",), function, (1, 2), (True,))
             self.assert_refused(BadShape, ("number",), function, (True,), (1, 2))
 
@@ -112,6 +114,7 @@ class WrongShapesTest(PlainCase):
             self.assert_refused(BadShape, (word,), stretched_number, (1, 0), (1, 0), wrong, 7)
         self.assert_refused(BadShape, ("number",), stretched_number, (1, 0), (True,), (1, 2), 7)
         self.assert_refused(BadShape, ("many",), stretched_number, (1, 0), (1, 0), (2,), 7)
+        self.assert_refused(BadShape, ("many",), stretched_number, (1,) * 5, (1,) * 5, (2,) * 5, 1)
         self.assert_refused(BadShape, ("many",), stretched_number, (1,), (1, 0), (2, 0), True)
 
 

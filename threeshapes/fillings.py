@@ -112,8 +112,8 @@ def filling_of_chain(chain):
     counts = []
     for at, (shape, later) in enumerate(zip(shapes, shapes[1:])):
         steps = [part - less for part, less in zip(later, shape)]
-        # No letter stands in a row above its own number.
-        if any([step != 0 for step in steps[:at]]) or any([step < 0 for step in steps]):
+        # No letter stands in a row above its own number. Steps below 0 are left to Filling, for the same word.
+        if any([step != 0 for step in steps[:at]]):
             raise BadFilling("counts")
         counts.append(steps[at:])
     for at in range(len(counts), size):

@@ -102,8 +102,11 @@ def _grown_heights(height, at, sums):
 def _bounds_behind(at, parts, after):
     """Return for each row, from that of the letter on, the least and the greatest height after this letter.
 
-    They follow from the three rules, whatever is placed so far, and keep the search from ways without an end: the
-    letters behind can put into a row at most one part of the content, and they must put there at least another one.
+    They hold whatever is placed so far, and keep the search from ways without an end. The least one: by COLUMN the row
+    is no lower than a row further down after as many more letters, and by WORD the letters behind those can put there
+    at most the part of the first of them. The greatest one: by COLUMN the height and how often a later letter stands
+    up to this row are together at most what the row of this later letter comes to, and by WORD the later letter
+    stands up to this row at least as often as a letter stands at all that is as much later as there are rows below.
     """
     size = len(after)
     # The row of the letter's own number is done: no letter behind stands there.
@@ -136,10 +139,9 @@ def _limits_of_letter(at, height, above, parts, after, bounds):
         if low > high or least_step > most_step:
             return []
         limits.append((low, high, least_step, most_step))
-    low, high, least_step, most_step = limits[-1]
-    if least_step > high or most_step < low:
-        return []
-    return limits[::-1]
+    # The step to the first row is the first sum, and no sum less than what the row still needs is let.
+    low, _, _, most_step = limits[-1]
+    return limits[::-1] if most_step >= low else []
 
 
 def _least_sums(limits, begun):
