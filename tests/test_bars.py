@@ -126,6 +126,16 @@ class BarsTest(PlainCase):
         self.assertIsNone(Bars(3).first_broken(a, b, c))
         self.assertEqual((a, b, c, triple), ([2, 1, 0], [2, 1, 0], [4, 1, 1], [[1], [1], [1]]))
 
+    def test_a_later_change_of_what_was_passed_changes_no_bars(self):
+        bars = Bars(3)
+        a, b, c = [2, 1, 0], [2, 1, 0], [4, 1, 1]
+        tight = bars.all_tight(a, b, c)
+        pieces = pieces_of(a, b, c)
+        a[0] = b[0] = c[0] = 9
+        self.assertEqual(tight, BARS[3].all_tight((2, 1, 0), (2, 1, 0), (4, 1, 1)))
+        self.assertEqual(pieces[0], ((2,), (2,), (4,)))
+        self.assertEqual(vars(bars), {"length": 3, "triples": NEEDFUL[3]})
+
     def test_the_bar_that_is_not_needful_is_never_the_only_one(self):
         for a in falling_rows(6, 1):
             for b in falling_rows(6, 2):

@@ -199,6 +199,11 @@ class StretchedNumberTest(PlainCase):
         self.assertEqual([stretched_number((1,), (1,), (3,), by) for by in range(4)], [1, 0, 0, 0])
         self.assertEqual([stretched_number((2, 0), (0, 0), (1, 1), by) for by in range(4)], [1, 0, 0, 0])
 
+    def test_parts_near_forty(self):
+        numbers = [stretched_number((4, 3, 1, 0), (4, 2, 1, 0), (6, 4, 3, 2), by) for by in range(7)]
+        self.assertGreater(numbers[6], 20)
+        self.assertEqual(numbers[6], 4 * numbers[5] - 6 * numbers[4] + 4 * numbers[3] - numbers[2])
+
     def test_no_bound_on_the_sums(self):
         self.assertEqual(stretched_number((40, 27, 13, 0), (1, 1, 0, 0), (41, 28, 13, 0), 1), 1)
         self.assertEqual(stretched_number((BIG,), (BIG,), (2 * BIG,), 6), 1)
