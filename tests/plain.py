@@ -7,6 +7,26 @@ from threeshapes.errors import TableError
 
 BIG = 10 ** 399 + 7 * 10 ** 200 + 3
 
+# What is no prime, no whole number, no sequence; and what is no square table, no shape, no kind, with the words.
+NO_PRIMES = (0, 1, 4, 6, 7, -2, True, False, None, 2.0, "2", (2,), [3], BIG)
+NO_WHOLE = (True, False, None, 1.0, "1", (1,), [0])
+NO_SEQUENCES = (None, 7, True, "ab", b"ab", {0: 1}, {1}, range(2), iter(()))
+NO_SQUARES = (
+    (None, "rows"), (7, "rows"), ("12", "rows"), ((), "rows"), (((1,),) * 9, "rows"), ({0: (1,)}, "rows"),
+    ((1,), "columns"), (((),), "columns"), (((1, 2), (3,)), "columns"), (("12", "34"), "columns"),
+    (((1,) * 9,) * 2, "columns"), (((True,),), "number"), (((1, 2), (3, 1.0)), "number"), (((None,),), "number"),
+    (((1, 2),), "square"), (((1,), (2,)), "square"), (((1, 0, 0), (0, 1, 0)), "square"), (((1,) * 5,) * 5, "square"),
+)
+NO_SHAPES = (
+    (None, "many"), (7, "many"), ("21", "many"), ((), "many"), ({1: 1}, "many"), ((True, 0), "number"),
+    ((1, -1), "number"), ((1.0,), "number"), ((None,), "number"), ((1, 2), "falling"), ((2, 0, 1), "falling"),
+)
+NO_KINDS = (
+    (None, "many"), (7, "many"), ("21", "many"), ({1: 1}, "many"), ((True,), "number"), ((1, 0), "number"),
+    ((0,), "number"), ((1, -1), "number"), ((1.0,), "number"), ((None,), "number"), ((1, 2), "falling"),
+    ((2, 1, 3), "falling"),
+)
+
 
 class PlainCase(unittest.TestCase):
     def assert_refused(self, error, fields, function, *given, **named):
@@ -43,6 +63,17 @@ def shapes_of_sum(length, total, most=None):
         for first in range(top + 1)
         for rest in shapes_of_sum(length - 1, total - first, first)
     ]
+
+
+def small_fillings(sizes=((1, 4), (2, 3), (3, 2))):
+    """(before, content, after, counts) of all fillings of so many rows with parts of before and content to a most."""
+    for size, most in sizes:
+        for before in falling_rows(size, most):
+            for content in falling_rows(size, most):
+                for after in falling_rows(size, 2 * most):
+                    if sum(before) + sum(content) == sum(after):
+                        for counts in plain_fillings(before, content, after):
+                            yield before, content, after, counts
 
 
 def drawn_shape(chance, length, most):
@@ -87,6 +118,68 @@ def plain_exponent(prime, number):
     while number % prime ** (exponent + 1) == 0:
         exponent += 1
     return exponent
+
+
+def plain_cut_outs(table, size):
+    for rows in itertools.combinations(range(len(table)), size):
+        for columns in itertools.combinations(range(len(table[0])), size):
+            yield [[table[row][column] for column in columns] for row in rows]
+
+
+def plain_least(prime, table, size):
+    numbers = [plain_determinant(part) for part in plain_cut_outs(table, size)]
+    return min((plain_exponent(prime, number) for number in numbers if number), default=None)
+
+
+def plain_shape(prime, table):
+    """The shape of a table that is not flat, by the determinants of all cut-outs."""
+    leasts = [0] + [plain_least(prime, table, size + 1) for size in range(len(table))]
+    return tuple(leasts[at] - leasts[at - 1] for at in range(len(table), 0, -1))
+
+
+def plain_flipped(table):
+    return tuple(tuple(row[at] for row in table) for at in range(len(table[0])))
+
+
+def drawn_invertible(chance, prime, size, most=9):
+    """A square table whose determinant the prime does not divide."""
+    while True:
+        table = tuple(tuple(chance.randint(-most, most) for _ in range(size)) for _ in range(size))
+        if plain_determinant(table) % prime:
+            return table
+
+
+def drawn_inverses(chance, size):
+    """Two square tables whose product is the identity table, both ways."""
+    ahead = tuple(tuple(int(row == column) for column in range(size)) for row in range(size))
+    back = ahead
+    for _ in range(8 if size > 1 else 0):
+        one, other = chance.sample(range(size), 2)
+        number = chance.randint(-3, 3)
+        step = [[int(row == column) for column in range(size)] for row in range(size)]
+        undone = [list(row) for row in step]
+        step[one][other], undone[one][other] = number, -number
+        ahead = plain_product(ahead, step)
+        back = plain_product(undone, back)
+    return ahead, back
+
+
+def drawn_turned(chance, prime, table):
+    """The table between two invertible ones: another table of the same shape."""
+    ahead = drawn_invertible(chance, prime, len(table))
+    behind = drawn_invertible(chance, prime, len(table[0]))
+    return plain_product(plain_product(ahead, table), behind)
+
+
+def drawn_square(chance, prime, size, most=9):
+    """A square table that is not flat, often with many factors of the prime."""
+    while True:
+        table = tuple(
+            tuple(chance.randint(-most, most) * prime ** chance.choice((0, 0, 1, 2)) for _ in range(size))
+            for _ in range(size)
+        )
+        if plain_determinant(table):
+            return table
 
 
 def rows_of_sum(total, bounds):

@@ -1,7 +1,7 @@
 import itertools
 import unittest
 
-from tests.plain import BIG, PlainCase, falling_rows, keeps_rules, plain_chain, plain_fillings
+from tests.plain import BIG, PlainCase, falling_rows, keeps_rules, plain_chain, small_fillings
 from threeshapes.errors import BadFilling, NoRow
 from threeshapes.fillings import Filling, filling_of_chain
 
@@ -10,17 +10,6 @@ AFTER = (3, 2, 1)
 FIRST = ((1, 0, 1), (1, 0), (0,))
 SECOND = ((1, 1, 0), (0, 1), (0,))
 NO_SHAPES = (None, 7, "210", (), (1, 2), (True,), (1, -1), [1.0], (1,) * 25, {1: 1}, {1}, (None, 1))
-
-
-def small_fillings():
-    """(before, content, after, counts) of all fillings of some small shapes."""
-    for size, most in ((1, 4), (2, 3), (3, 2)):
-        for before in falling_rows(size, most):
-            for content in falling_rows(size, most):
-                for after in falling_rows(size, most + 2):
-                    if sum(before) + sum(content) == sum(after):
-                        for counts in plain_fillings(before, content, after):
-                            yield before, content, after, counts
 
 
 class FillingTest(PlainCase):

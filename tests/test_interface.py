@@ -85,10 +85,49 @@ FUNCTIONS = {
         part_range(a, b, part)
         stretched_number(a, b, c, by)
     """,
+    "making": """
+        diagonal_table(prime, shape)
+        letter_table(prime, filling, letter)
+        made_chain(prime, filling)
+        made_tables(prime, filling)
+        product_fault(prime, one, other, filling)
+    """,
+    "strands": """
+        strands_of(filling)
+        strand_chain(filling)
+        filling_of_strands(before, strands)
+    """,
+    "backfilling": """
+        back_chain(prime, one, other)
+        back_filling(prime, one, other)
+        strand_shapes(prime, one, other)
+        strand_filling(prime, one, other)
+    """,
+    "following": """
+        following_tables(prime, table, filling)
+        following_table(prime, table, filling)
+        ahead_table(prime, table, filling)
+    """,
+    "rooms": """
+        check_member(room, thing)
+        added_member(room, one, other)
+        times_member(room, number, member)
+        killing_exponent(room, member)
+        killed_by(room, exponent)
+    """,
+    "within": """
+        check_within(room, thing)
+        made_within(room, members)
+        joined_within(room, one, other)
+        shared_within(room, one, other)
+        times_within(room, number, within)
+        facing_within(room, within)
+        all_within(room)
+    """,
 }
 
 # The generators of the interface, by their names.
-GENERATORS = ("all_fillings",)
+GENERATORS = ("all_fillings", "all_within")
 
 # The class, the parameters, the methods and the properties that it defines itself, and whether it has ==.
 CLASSES = {
@@ -99,6 +138,7 @@ CLASSES = {
         ("Broken", "what, ones, others, sums, over", (), (), False),
         ("Bars", "length", ("first_broken(a, b, c)", "all_broken(a, b, c)", "all_tight(a, b, c)"), (), False),
     ),
+    "rooms": (("Room", "prime, kind", ("__iter__()",), (), True),),
 }
 
 

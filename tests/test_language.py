@@ -16,7 +16,7 @@ LIBRARY = {
 }
 BUILTINS = set(
     "len range enumerate zip min max sum abs sorted reversed int str bool list tuple dict set isinstance ord repr any"
-    " all divmod Exception ValueError TypeError KeyError IndexError LookupError ZeroDivisionError RuntimeError"
+    " all divmod iter Exception ValueError TypeError KeyError IndexError LookupError ZeroDivisionError RuntimeError"
     " NotImplementedError property".split()
 )
 BARRED = set(
@@ -25,7 +25,7 @@ BARRED = set(
     " quit setattr super type vars sys typing enum namedtuple dataclass overload contextmanager".split()
 )
 METHODS = set(
-    "append clear copy count endswith extend find get index insert items join keys pop remove replace reverse"
+    "add append clear copy count endswith extend find get index insert items join keys pop remove replace reverse"
     " setdefault split startswith strip update values".split()
 )
 AT_ONCE = {"range", "zip", "enumerate", "reversed"}
@@ -55,6 +55,7 @@ class LanguageTest(unittest.TestCase):
             for node in ast.walk(tree):
                 for child in ast.iter_child_nodes(node):
                     child.above = node
+            for node in ast.walk(tree):
                 yield path.name + ":" + str(getattr(node, "lineno", 0)), node
 
     def test_files(self):
@@ -149,6 +150,36 @@ class LanguageTest(unittest.TestCase):
         for place, node in self.each_node():
             if isinstance(node, ast.Call) and isinstance(node.func, ast.Attribute):
                 self.assertIn(node.func.attr, METHODS | own, place)
+
+    def test_sets(self):
+        """A set is sorted or measured on the spot, or a local name is assigned it once and only asked and added to."""
+        for place, node in self.each_node():
+            if isinstance(node, (ast.Set, ast.SetComp)) or (
+                    isinstance(node, ast.Call) and ast.unparse(node.func) == "set"):
+                above = node.above
+                if isinstance(above, ast.Call):
+                    self.assertIn(ast.unparse(above.func), ("sorted", "len"), place)
+                else:
+                    self.assertIsInstance(above, ast.Assign, place)
+                    self.assert_stored_set(place, above)
+
+    def assert_stored_set(self, place, statement):
+        name = statement.targets[0].id
+        function = statement
+        while not isinstance(function, ast.FunctionDef):
+            function = function.above
+        for node in ast.walk(function):
+            if isinstance(node, ast.Name) and node.id == name and node is not statement.targets[0]:
+                self.assertIsInstance(node.ctx, ast.Load, place)
+                above = node.above
+                if isinstance(above, ast.Attribute):
+                    self.assertIn(above.attr, ("add", "discard"), place)
+                    self.assertIsInstance(above.above.above, ast.Expr, place)
+                elif isinstance(above, ast.Compare):
+                    self.assertIsInstance(above.ops[0], (ast.In, ast.NotIn), place)
+                    self.assertIs(above.comparators[0], node, place)
+                else:
+                    self.assertIn(ast.unparse(above.func), ("sorted", "len"), place)
 
     def test_iterated_at_once(self):
         for place, node in self.each_node():

@@ -2,29 +2,15 @@ import random
 import unittest
 from itertools import combinations
 
-from tests.plain import BIG, PlainCase, plain_determinant, plain_exponent, plain_product
+from tests.plain import (
+    BIG, PlainCase, plain_determinant, plain_exponent, plain_least, plain_product, plain_shape,
+)
 from threeshapes.errors import BadMany, BadMore, BadPrime, BadTable, Flat, NotInvertible
 from threeshapes.tables import diagonal_of, identity_table, is_invertible, table_modulo
 from threeshapes.turning import Turned, inverse_modulo, least_exponent, shape_of, turn_table, turned_fault
 
 FLAT = ((1, 2, 3), (2, 4, 6))
 TABLE = ((2, 1), (0, 2))
-
-
-def plain_cut_outs(table, size):
-    for rows in combinations(range(len(table)), size):
-        for columns in combinations(range(len(table[0])), size):
-            yield [[table[row][column] for column in columns] for row in rows]
-
-
-def plain_least(prime, table, size):
-    numbers = [plain_determinant(part) for part in plain_cut_outs(table, size)]
-    return min((plain_exponent(prime, number) for number in numbers if number), default=None)
-
-
-def plain_shape(prime, table):
-    leasts = [0] + [plain_least(prime, table, size + 1) for size in range(len(table))]
-    return tuple(leasts[at] - leasts[at - 1] for at in range(len(table), 0, -1))
 
 
 def plain_modulus(prime, table, more):
