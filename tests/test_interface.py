@@ -124,6 +124,48 @@ FUNCTIONS = {
         facing_within(room, within)
         all_within(room)
     """,
+    "kindsofwithin": """
+        kind_of_within(room, within)
+        rest_kind(room, within)
+        chain_of_within(room, within)
+        basis_of_within(room, within)
+        basis_fault(room, within, basis)
+        find_within(room, kind, rest)
+    """,
+    "leaders": """
+        leader_of_table(prime, table)
+        led_member(leader, column)
+        leader_fault(prime, table, leader)
+        within_of_product(prime, one, other)
+    """,
+    "splitting": "tables_of_within(room, within)",
+    "polys": """
+        make_poly(numbers)
+        poly_plus(one, other)
+        poly_minus(one, other)
+        poly_times(one, other)
+        shift_poly(poly, by)
+        p_count(many, taken)
+        poly_at(poly, number)
+    """,
+    "columncounts": """
+        columns_of(kind)
+        kinds_of_sum(total)
+        column_poly(rest, ones, kind)
+        within_poly(part, kind)
+        map_poly(one, other)
+        own_map_poly(kind)
+    """,
+    "kindproducts": """
+        mix_plus(one, other)
+        mix_times(one, other)
+        product_of_kinds(a, b)
+        product_of_columns(columns)
+        column_form(kind)
+        count_poly(a, b, c)
+        chain_poly(kinds, kind)
+        within_count(prime, a, b, c)
+    """,
 }
 
 # The generators of the interface, by their names.
@@ -139,6 +181,7 @@ CLASSES = {
         ("Bars", "length", ("first_broken(a, b, c)", "all_broken(a, b, c)", "all_tight(a, b, c)"), (), False),
     ),
     "rooms": (("Room", "prime, kind", ("__iter__()",), (), True),),
+    "leaders": (("Leader", "room, rows", (), (), False), ("ProductRoom", "leader, within", (), (), False)),
 }
 
 
