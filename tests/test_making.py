@@ -162,6 +162,9 @@ class ProductFaultTest(PlainCase):
             self.assertEqual(product_fault(2, one, wrong, EXAMPLE), "other")
             self.assertEqual(product_fault(2, wrong, wrong, EXAMPLE), "one")
         self.assertEqual(product_fault(2, ((4, 0), (0, 1)), other, EXAMPLE), "one")
+        # Long tables of the right shapes.
+        self.assertEqual(product_fault(2, ((2, 0, 4), (0, 1, 7)), other, EXAMPLE), "one")
+        self.assertEqual(product_fault(2, one, ((2, 1, 0), (0, 2, 0)), EXAMPLE), "other")
         self.assertEqual(product_fault(2, one, ((2, 0), (0, 1)), EXAMPLE), "other")
         self.assertEqual(product_fault(3, one, other, EXAMPLE), "one")
 

@@ -149,6 +149,8 @@ class FillingOfStrandsTest(PlainCase):
         for number in (0, 3, -1, BIG) + NO_WHOLE:
             self.assert_refused(BadStrands, (0,), filling_of_strands, (1, 0), [(number,)])
             self.assert_refused(BadStrands, (2,), filling_of_strands, (1, 0), [(1,), (1,), (number,)])
+            self.assert_refused(BadStrands, (0,), filling_of_strands, (1, 0), [(1, number)])
+            self.assert_refused(BadStrands, (0,), filling_of_strands, (1, 0), [(number, 2)])
         for wrong in ((), (2, 1), (1, 1), (1, 2, 2), (1, 2, 3)):
             self.assert_refused(BadStrands, (0,), filling_of_strands, (1, 0), (wrong,))
             self.assert_refused(BadStrands, (1,), filling_of_strands, (1, 0), ((1, 2), wrong))

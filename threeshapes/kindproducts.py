@@ -74,6 +74,9 @@ def product_of_kinds(a, b):
     a = check_kind(a)
     b = check_kind(b)
     _check_total(sum(a) + sum(b))
+    # The product is the same both ways, and the form of a lesser sum is found sooner.
+    if sum(a) < sum(b):
+        a, b = b, a
     return _times_kind(((a, (1,)),), b)
 
 

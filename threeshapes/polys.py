@@ -39,9 +39,7 @@ def _padded(poly, long):
 
 def poly_times(one, other):
     """Return the product of two polys."""
-    if len(one) == 0 or len(other) == 0:
-        return ()
-    numbers = [0] * (len(one) + len(other) - 1)
+    numbers = [0] * (len(one) + len(other))
     for at, number in enumerate(one):
         for place, times in enumerate(other, at):
             numbers[place] = numbers[place] + number * times

@@ -13,8 +13,8 @@ def check_within(room, thing):
         members = sorted(set([check_member(room, member) for member in thing]))
     except BadMember:
         raise BadWithin("member") from None
-    # All sums are there just if nothing has to be added to them.
-    if not members or len(spanned_by(room, members)) != len(members):
+    # All sums, and nought, are there just if nothing has to be added to them.
+    if len(spanned_by(room, members)) != len(members):
         raise BadWithin("added")
     return tuple(members)
 
