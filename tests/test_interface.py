@@ -166,10 +166,39 @@ FUNCTIONS = {
         chain_poly(kinds, kind)
         within_count(prime, a, b, c)
     """,
+    "rowsoffactors": """
+        check_factors(factors)
+        all_beginnings(factors, after)
+        row_way(factors, after)
+        shapes_of_row(factors)
+        is_row_shape(factors, after)
+        ways_of_row(factors, after)
+    """,
+    "rowbars": "row_bar(factors, after)",
+    "tablerows": """
+        tables_of_beginnings(prime, factors, beginnings)
+        made_row(prime, factors, after)
+        made_around(prime, factors, after, place, table)
+        row_fault(prime, factors, beginnings, tables)
+        read_row(prime, tables)
+    """,
+    "fewest": "fewest_factors(allowed, after)",
+    "woven": """
+        is_woven(shape, part)
+        unwoven_place(shape, part)
+        woven_shapes(shape, many)
+        count_woven(shape, many)
+    """,
+    "rowchains": """
+        all_row_chains(shape)
+        count_row_chains(shape)
+        check_rises(rises, many)
+        count_by_rises(shape, rises)
+    """,
 }
 
 # The generators of the interface, by their names.
-GENERATORS = ("all_fillings", "all_within")
+GENERATORS = ("all_fillings", "all_within", "all_beginnings", "all_row_chains")
 
 # The class, the parameters, the methods and the properties that it defines itself, and whether it has ==.
 CLASSES = {
@@ -182,6 +211,9 @@ CLASSES = {
     ),
     "rooms": (("Room", "prime, kind", ("__iter__()",), (), True),),
     "leaders": (("Leader", "room, rows", (), (), False), ("ProductRoom", "leader, within", (), (), False)),
+    "rowbars": (("BrokenRow", "what, places, sums, over", (), (), False),),
+    "tablerows": (("RowRead", "factors, beginnings", (), (), False),),
+    "fewest": (("Fewest", "number, row", (), (), False),),
 }
 
 

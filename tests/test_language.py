@@ -159,6 +159,7 @@ class LanguageTest(unittest.TestCase):
                 above = node.above
                 if isinstance(above, ast.Call):
                     self.assertIn(ast.unparse(above.func), ("sorted", "len"), place)
+                    self.assertEqual(above.keywords, [], place)
                 else:
                     self.assertIsInstance(above, ast.Assign, place)
                     self.assert_stored_set(place, above)
