@@ -117,3 +117,24 @@ NO_FACTORS = (
     (((1, 0), (1,), (1, 2)), "length", 1), (((1, 0), (1, 2), (1,)), "shape", 1), (((1, 0), (1, 2, 3)), "shape", 1),
     (((1, 2), (1,), (1, 0)), "shape", 0), (((1, 0), (1,) * 5), "shape", 1),
 )
+
+
+def plain_wide(prime, shape, wide):
+    """A table of so many columns with the powers to the shape on its diagonal."""
+    return tuple(row + (0,) * (wide - len(shape)) for row in plain_diagonal(prime, shape))
+
+
+def drawn_wide(chance, prime, shape, wide):
+    """A table of so many columns and of this shape, with entries of either sign."""
+    return drawn_turned(chance, prime, plain_wide(prime, shape, wide))
+
+
+# No tables of sort "long", with the word.
+NO_LONGS = (
+    (None, "rows"), (7, "rows"), ("12", "rows"), ((), "rows"), (((1,),) * 9, "rows"), ({0: (1,)}, "rows"),
+    ((1,), "columns"), (((),), "columns"), (((1, 2), (3,)), "columns"), (("12", "34"), "columns"),
+    (((1,) * 9,), "columns"), (((True,),), "number"), (((1, 2), (3, 1.0)), "number"), (((None,),), "number"),
+    (((1,), (2,)), "long"), (((1, 0), (0, 1), (1, 1)), "long"), (((1,) * 8,) * 5, "long"),
+)
+# Flat tables of this sort.
+FLAT_LONGS = (((0,),), ((0, 0, 0),), ((1, 2), (2, 4)), ((1, 2, 3), (0, 0, 0)), ((1, 0, 0, 5), (0, 1, 0, 6), (1, 1, 0, 11)))

@@ -195,10 +195,46 @@ FUNCTIONS = {
         check_rises(rises, many)
         count_by_rises(shape, rises)
     """,
+    "rowsadded": """
+        struck_row(table, row)
+        first_rows(table, many)
+        row_chain(prime, table)
+        added_row(prime, table, shape)
+        extended_table(prime, table, shape)
+        table_with_rows(prime, shapes)
+        added_fault(prime, table, shape, row)
+        extended_fault(prime, table, shape, longer)
+        rows_fault(prime, shapes, table)
+    """,
+    "rowturning": """
+        left_for_rows(prime, table, shapes)
+        left_fault(prime, table, shapes, left)
+    """,
+    "readings": """
+        all_readings(book)
+        count_readings(book)
+        first_reading(book)
+        tables_of_book(prime, book)
+        come_shapes(book)
+        fitting_shapes(book)
+        why_shut(book)
+    """,
+    "mends": """
+        check_pool(book, pool)
+        find_mends(book, pool)
+        find_blocks(book, pool)
+        choice_fault(book, pool, choice, what)
+    """,
+    "booktext": """
+        book_text(book)
+        read_book(text)
+    """,
 }
 
 # The generators of the interface, by their names.
-GENERATORS = ("all_fillings", "all_within", "all_beginnings", "all_row_chains")
+GENERATORS = (
+    "all_fillings", "all_within", "all_beginnings", "all_row_chains", "all_readings", "find_mends", "find_blocks",
+)
 
 # The class, the parameters, the methods and the properties that it defines itself, and whether it has ==.
 CLASSES = {
@@ -214,6 +250,18 @@ CLASSES = {
     "rowbars": (("BrokenRow", "what, places, sums, over", (), (), False),),
     "tablerows": (("RowRead", "factors, beginnings", (), (), False),),
     "fewest": (("Fewest", "number, row", (), (), False),),
+    "books": (
+        ("Book", "length, factors, beginnings", ("without(sayings)", "with_factor(place, lot)",
+                                                 "with_beginning(place, lot)", "first_places(many)"), ("sayings",), True),
+    ),
+    "readings": (
+        ("Reading", "factors, beginnings", (), (), False), ("Fitting", "factors, beginnings", (), (), False),
+        ("Why", "place, steps", (), (), False),
+    ),
+    "bench": (
+        ("Bench", "book", ("say_factor(place, lot)", "say_beginning(place, lot)", "forget_sayings(sayings)", "fit_lots()",
+                           "take_back()", "do_deeds(deeds)", "read_book()", "try_deeds(deeds)"), ("log",), False),
+    ),
 }
 
 

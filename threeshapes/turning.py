@@ -50,7 +50,14 @@ def turn_table(prime, table, more=0):
     """Bring the table to its diagonal and return a Turned."""
     check_prime(prime)
     table = check_table(table, "long")
-    modulus = prime_power(prime, _exponent_of_modulus(prime, table, more))
+    return turned_modulo(prime, table, prime_power(prime, _exponent_of_modulus(prime, table, more)))
+
+
+def turned_modulo(prime, table, modulus):
+    """Return a Turned for this modulus, a power of the prime with an exponent above the sum of the table's shape.
+
+    Nothing is checked.
+    """
     left = identity_table(len(table))
     middle = table_modulo(table, modulus)
     # The columns of right are kept as rows, so that steps on columns are steps on rows.
@@ -153,9 +160,9 @@ def turned_fault(prime, table, turned, more=0):
         return "modulus"
     if not _is_shape(turned.shape, len(table)):
         return "shape"
-    if not _is_turning(prime, turned.left, len(table)):
+    if not is_turning(prime, turned.left, len(table)):
         return "left"
-    if not _is_turning(prime, turned.right, len(table[0])):
+    if not is_turning(prime, turned.right, len(table[0])):
         return "right"
     product = times_table(times_table(turned.left, table), turned.right)
     if table_modulo(product, modulus) != _long_diagonal(prime, turned.shape, len(table[0]), exponent):
@@ -171,7 +178,7 @@ def _is_shape(thing, length):
     return True
 
 
-def _is_turning(prime, thing, size):
+def is_turning(prime, thing, size):
     """Tell whether thing is an invertible table with so many rows and columns."""
     try:
         table = check_table(thing)
