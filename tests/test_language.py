@@ -30,6 +30,7 @@ METHODS = set(
 )
 AT_ONCE = {"range", "zip", "enumerate", "reversed"}
 TAKERS = {"list", "tuple", "dict", "sorted", "sum", "any", "all", "enumerate", "zip", "min", "max", "combinations"}
+CHANGERS = set("add append clear discard extend insert pop remove reverse setdefault sort update".split())
 STATEMENTS = (
     ast.Assign, ast.If, ast.While, ast.For, ast.Return, ast.Break, ast.Continue, ast.Pass, ast.Raise, ast.Assert,
     ast.Delete, ast.Try, ast.Expr, ast.FunctionDef, ast.ClassDef, ast.ImportFrom,
@@ -46,6 +47,66 @@ def bound_names(node):
         yield node.id
     if isinstance(node, ast.alias):
         yield node.asname or node.name
+
+
+def values_of(node):
+    """The values that an expression may be or go over, without choices and views around them."""
+    if isinstance(node, ast.IfExp):
+        parts = [node.body, node.orelse]
+    elif isinstance(node, ast.BoolOp):
+        parts = node.values
+    elif isinstance(node, ast.Call) and ast.unparse(node.func) in ("enumerate", "reversed", "zip"):
+        parts = node.args
+    elif isinstance(node, ast.Call) and isinstance(node.func, ast.Attribute) and (
+            node.func.attr in ("items", "keys", "values")):
+        parts = [node.func.value]
+    else:
+        return [ast.unparse(node)] if isinstance(node, (ast.Name, ast.Attribute, ast.Subscript)) else []
+    return [value for part in parts for value in values_of(part)]
+
+
+def changed_values(parts):
+    """The values that a call or an assignment in these parts changes, each with its row."""
+    for node in [inner for part in parts for inner in ast.walk(part)]:
+        if isinstance(node, ast.Call) and isinstance(node.func, ast.Attribute) and node.func.attr in CHANGERS:
+            yield ast.unparse(node.func.value), node.lineno
+        elif isinstance(node, (ast.Attribute, ast.Subscript)) and not isinstance(node.ctx, ast.Load):
+            yield ast.unparse(node.value), node.lineno
+        elif isinstance(node, ast.AugAssign):
+            yield ast.unparse(node.target), node.lineno
+
+
+def couples_of(target, value):
+    """The names and values that an assignment makes names of one value."""
+    if isinstance(target, ast.Tuple) and isinstance(value, ast.Tuple):
+        return [couple for inner in zip(target.elts, value.elts) for couple in couples_of(*inner)]
+    return [(ast.unparse(target), one) for one in values_of(value)]
+
+
+def alike_values(function):
+    """For each name or value that the function gives another name: all that are names of it, at whatever time."""
+    alike = {}
+    for node in ast.walk(function):
+        for target in node.targets if isinstance(node, ast.Assign) else ():
+            for one, other in couples_of(target, node.value):
+                joined = alike.get(one, {one}) | alike.get(other, {other})
+                alike.update({name: joined for name in joined})
+    return alike
+
+
+def changed_while_walked(function):
+    """The rows in which a loop or comprehension changes what it goes over, by whatever name."""
+    alike = alike_values(function)
+    for loop in ast.walk(function):
+        if isinstance(loop, ast.For):
+            walked, parts = values_of(loop.iter), loop.body + loop.orelse
+        elif isinstance(loop, (ast.ListComp, ast.SetComp, ast.DictComp)):
+            walked, parts = [value for part in loop.generators for value in values_of(part.iter)], [loop]
+        else:
+            continue
+        for value, row in changed_values(parts):
+            if any(value in alike.get(one, {one}) for one in walked):
+                yield row
 
 
 class LanguageTest(unittest.TestCase):
@@ -190,6 +251,32 @@ class LanguageTest(unittest.TestCase):
                     self.assertIn(ast.unparse(above.func), TAKERS | {"reversed"}, place)
                 else:
                     self.assertIsInstance(above, (ast.For, ast.comprehension), place)
+
+    def test_what_is_walked_is_not_changed(self):
+        for place, node in self.each_node():
+            if isinstance(node, ast.FunctionDef):
+                self.assertEqual(list(changed_while_walked(node)), [], place)
+
+    def test_what_is_walked_is_told_by_all_its_names(self):
+        for rows in (
+            "longer = []\nfor row in rows:\n    longer.append(row)\nrows = longer",
+            "for row in rows:\n    rows.append(row)",
+            "for at, row in enumerate(rows):\n    rows[at] = 0",
+            "for key, row in rows.items():\n    del rows[key]",
+            "others = rows if rows else []\nfor row in others:\n    rows.pop()",
+            "for row in rows or others:\n    others += [row]",
+            "rows = self.rows\nfor row in rows:\n    self.rows.sort()",
+            "rows, others = others, rows\nfor row in rows:\n    if row:\n        others.clear()",
+            "return [rows.pop() for row in rows]",
+        ):
+            self.assertEqual(len(list(changed_while_walked(ast.parse(rows)))), 1, rows)
+        for rows in (
+            "longer = list(rows)\nfor row in rows:\n    longer.append(row)",
+            "longer = []\nfor row in list(rows):\n    longer.append(row)\nrows = longer",
+            "for row in rows:\n    row.append(1)\nrows.append(2)",
+            "rows = later(longer)\nfor row in rows:\n    longer[row] = 1",
+        ):
+            self.assertEqual(list(changed_while_walked(ast.parse(rows))), [], rows)
 
     def test_generators_are_iterated_at_once(self):
         names = set()

@@ -60,12 +60,17 @@ def _rows_of_places(all_places, many):
             products[(one, other)] = [shape for shape in product_shapes(one, other) if shape in known]
     rows = [((places,), [places_shape(places)]) for places in all_places]
     for _ in range(many - 1):
-        longer = []
-        for row, shapes in rows:
-            for places in all_places:
-                factor = places_shape(places)
-                reached = sorted(set([later for shape in shapes for later in products[(shape, factor)]]))
-                if reached:
-                    longer.append(((*row, places), reached))
-        rows = longer
+        rows = _longer_rows(all_places, rows, products)
     return rows
+
+
+def _longer_rows(all_places, rows, products):
+    """Return, ascending, the rows with one more item of places, each with the product shapes that places have."""
+    longer = []
+    for row, shapes in rows:
+        for places in all_places:
+            factor = places_shape(places)
+            reached = sorted(set([later for shape in shapes for later in products[(shape, factor)]]))
+            if reached:
+                longer.append(((*row, places), reached))
+    return longer
